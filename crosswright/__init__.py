@@ -1,0 +1,1 @@
+"""Crosswright: a house of crossed words."""
