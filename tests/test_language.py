@@ -153,6 +153,37 @@ class Language(unittest.TestCase):
             if isinstance(node, ast.Call) and isinstance(node.func, ast.Attribute):
                 self.check(stem, node, node.func.attr in METHODS | SPECIAL | own)
 
+    def test_no_name_is_a_method_here_and_a_value_there(self):
+        kinds = [node for stem, node in nodes() if isinstance(node, ast.ClassDef)]
+        methods = {part.name for kind in kinds for part in kind.body if isinstance(part, ast.FunctionDef)}
+        values = {
+            node.attr for stem, node in nodes() if isinstance(node, ast.Attribute) and isinstance(node.ctx, ast.Store)
+        }
+        self.assertEqual(methods & values, set())
+        self.assertEqual(values & set(dir("") + dir(0) + dir([]) + dir({}) + dir(b"")), set())
+
+    def test_no_local_is_called_like_a_class_or_an_import_of_its_file(self):
+        for stem, tree in TREES.items():
+            taken = {part.name for node in tree.body if isinstance(node, ast.ImportFrom) for part in node.names}
+            taken |= {node.name for node in tree.body if isinstance(node, ast.ClassDef)}
+            for node in ast.walk(tree):
+                if isinstance(node, ast.arg):
+                    self.check(stem, node, node.arg not in taken)
+                if isinstance(node, ast.Name) and isinstance(node.ctx, ast.Store):
+                    self.check(stem, node, node.id not in taken)
+
+    def test_sets_are_asked_or_sorted_on_the_spot(self):
+        for stem, tree in TREES.items():
+            fine = []
+            for node in ast.walk(tree):
+                if isinstance(node, ast.Compare):
+                    fine.extend([node.left] + node.comparators)
+                if isinstance(node, ast.Call) and isinstance(node.func, ast.Name) and node.func.id in ("sorted", "len"):
+                    fine.extend(node.args)
+            for node in ast.walk(tree):
+                if isinstance(node, ast.Call) and isinstance(node.func, ast.Name) and node.func.id == "set":
+                    self.check(stem, node, node in fine)
+
 
 if __name__ == "__main__":
     unittest.main()
