@@ -2,9 +2,8 @@
 
 from crosswright.errors import NoLine, NotThere, NoWord, Twice
 from crosswright.sheets import FREE
+from crosswright.texts import is_letters, is_number
 
-LETTERS = "abcdefghijklmnopqrstuvwxyz"
-FIGURES = "0123456789"
 LEAST_LETTERS = 2
 MOST_LETTERS = 9
 MOST_FIGURES = 60
@@ -39,7 +38,11 @@ class Book:
 
     def fitting(self, pattern):
         """The words that fit a pattern, sorted."""
-        return sorted([word for word in self.worths if fits(word, pattern)])
+        return sorted(words_fitting(self.worths, pattern))
+
+    def greatest(self, pattern):
+        """The greatest worth of the words that fit a pattern; None where none does."""
+        return max([self.worths[word] for word in words_fitting(self.worths, pattern)], default=None)
 
     def has(self, word):
         """Whether a text is a word of the book."""
@@ -60,21 +63,17 @@ def need_word(thing):
 
 def is_word(thing):
     """Whether a thing, whatever it is, is a word."""
-    if not isinstance(thing, str):
-        return False
-    if not LEAST_LETTERS <= len(thing) <= MOST_LETTERS:
-        return False
-    return all([sign in LETTERS for sign in thing])
+    return is_letters(thing, LEAST_LETTERS, MOST_LETTERS)
 
 
-def fits(word, pattern):
-    """Whether a word is as long as a pattern and has its letter, or a free place, everywhere."""
-    if len(word) != len(pattern):
-        return False
-    for letter, sign in zip(word, pattern):
-        if sign != FREE and sign != letter:
-            return False
-    return True
+def words_fitting(words, pattern):
+    """Those of the words that are as long as a pattern and have its letter, or a free place, everywhere."""
+    length = len(pattern)
+    fits = [word for word in words if len(word) == length]
+    for at, sign in enumerate(pattern):
+        if sign != FREE:
+            fits = [word for word in fits if word[at] == sign]
+    return fits
 
 
 def read_book(text):
@@ -99,10 +98,5 @@ def is_entry(parts):
 
 
 def is_worth(text):
-    """Whether a text writes a worth: one to sixty figures, without a 0 ahead but for 0 itself."""
-    if not 1 <= len(text) <= MOST_FIGURES:
-        return False
-    # Asked sign by sign, since Python reads signs, blanks and other figures as parts of numbers too.
-    if not all([sign in FIGURES for sign in text]):
-        return False
-    return text == "0" or text[0] != "0"
+    """Whether a text writes a worth."""
+    return is_number(text, MOST_FIGURES)

@@ -9,21 +9,21 @@ def fillings(book, sheet, most=2):
     """Fillings that agree with the sheet, at most so many, and a paper that closes it, or None; or NoFloor."""
     need_floor(sheet)
     found = []
-    paper = paper_of(first_standing(book, sheet), most, found)
+    paper = closing_paper(first_standing(book, sheet), most, found)
     return (found, paper)
 
 
-def paper_of(standing, most, found):
+def closing_paper(standing, most, found):
     """The paper that closes a standing, whose fillings are added to those found; None once there are enough."""
     if len(found) >= most:
         return None
     place = standing.narrowest()
     if place is None:
-        found.append(standing.sheet)
+        found.append(standing.filled())
         return Whole() if len(found) < most else None
     parts = []
-    for word in standing.lefts[place]:
-        paper = paper_of(standing.after(place, word), most, found)
+    for word in standing.left(place):
+        paper = closing_paper(standing.after(place, word), most, found)
         if paper is None:
             return None
         parts.append((word, paper))

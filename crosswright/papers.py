@@ -13,10 +13,19 @@ class Paper:
 
     def closes(self, book, sheet, told):
         """Whether it shows that no filling agrees with the sheet but told ones."""
-        return False
+        # Words put into rows leave the floor as it is, so all sheets that a paper speaks of have these rows.
+        return self.closes_by(book, sheet, rows_of(sheet), told)
 
     def bounds(self, book, sheet, most):
         """Whether it shows that no filling of more worth agrees with the sheet."""
+        return self.bounds_by(book, sheet, rows_of(sheet), most)
+
+    def closes_by(self, book, sheet, rows, told):
+        """Whether it closes a sheet with these rows."""
+        return False
+
+    def bounds_by(self, book, sheet, rows, most):
+        """Whether it bounds a sheet with these rows."""
         return False
 
 
@@ -27,29 +36,28 @@ class Cases(Paper):
         self.place = place
         self.parts = list(parts)
 
-    def closes(self, book, sheet, told):
+    def closes_by(self, book, sheet, rows, told):
         """Whether each part closes the sheet with its word, and the parts' words are those left."""
-        cases = self.cases_on(book, sheet)
+        cases = self.cases_on(book, sheet, rows)
         if cases is None:
             return False
         for case in cases:
-            if not case[0].closes(book, case[1], told):
+            if not case[0].closes_by(book, case[1], rows, told):
                 return False
         return True
 
-    def bounds(self, book, sheet, most):
+    def bounds_by(self, book, sheet, rows, most):
         """Whether each part bounds the sheet with its word, and the parts' words are those left."""
-        cases = self.cases_on(book, sheet)
+        cases = self.cases_on(book, sheet, rows)
         if cases is None:
             return False
         for case in cases:
-            if not case[0].bounds(book, case[1], most):
+            if not case[0].bounds_by(book, case[1], rows, most):
                 return False
         return True
 
-    def cases_on(self, book, sheet):
+    def cases_on(self, book, sheet, rows):
         """Each part's paper with the sheet that it speaks of; None where the parts' words are not those left."""
-        rows = rows_of(sheet)
         if not 0 <= self.place < len(rows):
             return None
         if sorted([part[0] for part in self.parts]) != left_among(book, sheet, rows, self.place):
@@ -61,7 +69,7 @@ class Cases(Paper):
 class Whole(Paper):
     """The end at a sheet that is told."""
 
-    def closes(self, book, sheet, told):
+    def closes_by(self, book, sheet, rows, told):
         """Whether the sheet has no free cell and is one of those told."""
         return not free_cells(sheet) and sheet in told
 
@@ -69,12 +77,12 @@ class Whole(Paper):
 class Short(Paper):
     """The end at a sheet whose rows can't bring more than a worth."""
 
-    def bounds(self, book, sheet, most):
+    def bounds_by(self, book, sheet, rows, most):
         """Whether a row is fitted by no word, or the greatest worths of the rows come to at most this worth."""
         total = 0
-        for row in rows_of(sheet):
-            worths = [book.worth(word) for word in book.fitting(pattern(sheet, row[2]))]
-            if not worths:
+        for row in rows:
+            greatest = book.greatest(pattern(sheet, row[2]))
+            if greatest is None:
                 return True
-            total = total + max(worths)
+            total = total + greatest
         return total <= most

@@ -13,7 +13,11 @@ def read_sheet(text):
     """The sheet that a text tells; NoSheet where it tells none."""
     if not isinstance(text, str):
         raise NoSheet(0)
-    lines = text.split("\n")
+    return sheet_from(text.split("\n"))
+
+
+def sheet_from(lines):
+    """The sheet with these lines, texts in a list; NoSheet where there is none."""
     for number, line in enumerate(lines[:MOST_LINES]):
         if not is_line(line, len(lines[0])):
             raise NoSheet(number)

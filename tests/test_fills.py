@@ -10,73 +10,12 @@ from crosswright.fills import fillings
 from crosswright.papers import Paper, Whole
 from crosswright.rows import need_floor, rows_of
 from crosswright.sheets import agrees
+from reckoning import FLOORS, all_fillings, book_of, filled_at_random, is_told, rows_in, words_at_random
 
 WORDS = ("ab", "cd", "ac", "bd")
 EMPTY = ("..", "..")
 SQUARE = ("ab", "cd")
 OTHER = ("ac", "bd")
-FLOORS = (
-    ("..", ".."), ("...", "..."), ("..", "..", ".."), ("#..", "...", "..#"), ("..#", "...", "#.."),
-    ("..##", "....", "##.."), ("..##", "..##", "##..", "##.."), ("####", "#..#", "#..#", "####"),
-    ("#",), ("##", "##"), ("...", "...", "..."), ("..#..", "..#.."),
-)
-
-
-def book_of(words):
-    book = Book()
-    for word in words:
-        book.put(word)
-    return book
-
-
-def rows_in(sheet):
-    """The patterns of the rows, read off the lines and the columns."""
-    texts = list(sheet) + ["".join(signs) for signs in zip(*sheet)]
-    return [run for text in texts for run in text.split("#") if len(run) > 1]
-
-
-def is_told(words, given, sheet):
-    """Whether a sheet is a filling that agrees with what is given, by another road than the program's."""
-    if [len(line) for line in sheet] != [len(line) for line in given]:
-        return False
-    for have, want in zip("".join(sheet), "".join(given)):
-        if have == "." or (want != "." and have != want) or (have == "#" and want != "#"):
-            return False
-    rows = rows_in(sheet)
-    return len(set(rows)) == len(rows) and set(rows) <= set(words)
-
-
-def lines_for(words, given):
-    """All ways to put words into the rows of one line that agree with it, two rows with one word among them."""
-    runs = given.split("#")
-    ways = [[word for word in words if len(word) == len(run)] if run else [""] for run in runs]
-    lines = ["#".join(way) for way in itertools.product(*ways)]
-    return [line for line in lines if all(want in (".", have) for have, want in zip(line, given))]
-
-
-def all_fillings(words, given):
-    """All fillings, line by line, a column being followed only while some word goes on like it."""
-    beginnings = {word[:length] for word in words for length in range(10)}
-    ways = [lines_for(words, line) for line in given]
-    begun = [()]
-    for number in range(len(given)):
-        longer = [sheet + (line,) for sheet in begun for line in ways[number]]
-        begun = [
-            sheet for sheet in longer
-            if all("".join(column).split("#")[-1] in beginnings for column in zip(*sheet))
-        ]
-    return {sheet for sheet in begun if is_told(words, given, sheet)}
-
-
-def words_at_random(chance, lengths, letters, number):
-    words = set()
-    while len(words) < number:
-        words.add("".join(chance.choice(letters) for at in range(chance.choice(lengths))))
-    return sorted(words)
-
-
-def filled_at_random(chance, floor, letters):
-    return tuple("".join("#" if sign == "#" else chance.choice(letters) for sign in line) for line in floor)
 
 
 class Fills(unittest.TestCase):

@@ -2,12 +2,11 @@
 
 import itertools
 import random
-import re
 import unittest
 
-from crosswright.books import Book
 from crosswright.papers import Cases, Paper, Short, Whole
 from crosswright.rows import rows_of
+from reckoning import book_of, fitting, left, signs_at, told_bounded, told_closed, with_word
 
 GREATEST = int("9" * 60)
 EMPTY = ("..", "..")
@@ -15,64 +14,6 @@ SQUARE = ("ab", "cd")
 OTHER = ("ac", "bd")
 # Of the sheet EMPTY, by the first row across; the rows are: 0 and 1 across, 2 and 3 down.
 WORTHS = {"ab": 1, "ac": 2, "bd": 4, "cd": 8}
-
-
-def book_of(worths):
-    book = Book()
-    for word, worth in worths.items():
-        book.put(word, worth)
-    return book
-
-
-def cells_at(sheet, place):
-    return rows_of(sheet)[place][2]
-
-
-def signs_at(sheet, place):
-    return "".join(sheet[line][column] for line, column in cells_at(sheet, place))
-
-
-def fitting(worths, sheet, place):
-    # To a regular expression, too, a point is any sign and a letter is itself.
-    return [word for word in worths if re.fullmatch(signs_at(sheet, place), word)]
-
-
-def left(worths, sheet, place):
-    others = [signs_at(sheet, other) for other in range(len(rows_of(sheet))) if other != place]
-    return {word for word in fitting(worths, sheet, place) if word not in others}
-
-
-def with_word(sheet, place, word):
-    lines = [list(line) for line in sheet]
-    for (line, column), letter in zip(cells_at(sheet, place), word, strict=True):
-        lines[line][column] = letter
-    return tuple("".join(line) for line in lines)
-
-
-def goes_by_cases(paper, worths, sheet, part_holds):
-    if paper.place not in range(len(rows_of(sheet))):
-        return False
-    words = [word for word, part in paper.parts]
-    if len(words) != len(set(words)) or set(words) != left(worths, sheet, paper.place):
-        return False
-    return all(part_holds(part, with_word(sheet, paper.place, word)) for word, part in paper.parts)
-
-
-def told_closed(paper, worths, sheet, told):
-    """Whether a paper closes a sheet, by another road than the program's."""
-    if isinstance(paper, Cases):
-        return goes_by_cases(paper, worths, sheet, lambda part, after: told_closed(part, worths, after, told))
-    return isinstance(paper, Whole) and "." not in "".join(sheet) and any(sheet == other for other in told)
-
-
-def told_bounded(paper, worths, sheet, most):
-    """Whether a paper bounds a sheet, by another road than the program's."""
-    if isinstance(paper, Cases):
-        return goes_by_cases(paper, worths, sheet, lambda part, after: told_bounded(part, worths, after, most))
-    if isinstance(paper, Whole):
-        return False
-    greatest = [[worths[word] for word in fitting(worths, sheet, place)] for place in range(len(rows_of(sheet)))]
-    return not all(greatest) or sum(map(max, greatest)) <= most
 
 
 def all_fillings(worths, sheet):
