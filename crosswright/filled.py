@@ -1,5 +1,6 @@
 """Words in the rows of a sheet: patterns, fillings, and the words that are left."""
 
+from crosswright.errors import NotFilled
 from crosswright.rows import rows_of
 from crosswright.sheets import free_cells, sign_at, with_sign
 
@@ -20,6 +21,12 @@ def is_filling(book, sheet):
             return False
         seen[word] = True
     return True
+
+
+def need_filling(book, sheet):
+    """Nothing where the sheet is a filling of the book, else NotFilled."""
+    if not is_filling(book, sheet):
+        raise NotFilled("the sheet is no filling of the book")
 
 
 def worth_of(book, sheet):

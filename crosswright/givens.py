@@ -1,7 +1,6 @@
 """Least givens: as few letters of a filling as need be for it alone to agree with them."""
 
-from crosswright.errors import NotFilled
-from crosswright.filled import is_filling
+from crosswright.filled import need_filling
 from crosswright.fills import fillings
 from crosswright.rows import need_floor
 from crosswright.sheets import FREE, open_cells, with_sign
@@ -10,8 +9,7 @@ from crosswright.sheets import FREE, open_cells, with_sign
 def least(book, filling):
     """Least givens of a filling, and for each of their cells another filling without it; or NoFloor, NotFilled."""
     need_floor(filling)
-    if not is_filling(book, filling):
-        raise NotFilled("the sheet is no filling of the book")
+    need_filling(book, filling)
     givens = filling
     seconds = []
     for cell in open_cells(filling):

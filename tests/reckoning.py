@@ -1,4 +1,4 @@
-"""A second reckoning, by other roads than the program's, that tests hold its answers against; and what they begin with."""
+"""A second reckoning, by other roads than the program's, that tests hold its answers against."""
 
 import functools
 import itertools
@@ -13,6 +13,8 @@ FLOORS = (
     ("..##", "....", "##.."), ("..##", "..##", "##..", "##.."), ("####", "#..#", "#..#", "####"),
     ("#",), ("##", "##"), ("...", "...", "..."), ("..#..", "..#.."),
 )
+# The names of the steps of workings, and of words in them.
+NAMES = ("back", "join", "mix", "within", "less", "word")
 
 
 def book_of(words):
@@ -27,6 +29,10 @@ def rows_in(sheet):
     """The patterns of the rows, read off the lines and the columns."""
     texts = list(sheet) + ["".join(signs) for signs in zip(*sheet)]
     return [run for text in texts for run in text.split("#") if len(run) > 1]
+
+
+def worth_in(worths, filling):
+    return sum(worths[word] for word in rows_in(filling))
 
 
 def is_told(words, given, sheet):
@@ -129,3 +135,55 @@ def told_bounded(paper, worths, sheet, most):
         return False
     greatest = [[worths[word] for word in fitting(worths, sheet, place)] for place in range(len(cells_of(sheet)))]
     return not all(greatest) or sum(map(max, greatest)) <= most
+
+
+def letters_at_random(chance):
+    if chance.random() < 0.2:
+        return chance.choice(NAMES)
+    return "".join(chance.choice("abcklmz") for at in range(chance.randint(1, 9)))
+
+
+def working_at_random(chance, depth):
+    kind = chance.choice(NAMES)
+    if depth == 1 or kind == "word":
+        return ("word", letters_at_random(chance))
+    part = working_at_random(chance, depth - 1)
+    if kind == "back":
+        return ("back", part)
+    if kind == "join":
+        return ("join", part, working_at_random(chance, depth - 1))
+    if kind == "mix":
+        return ("mix", part, letters_at_random(chance))
+    if kind == "within":
+        return ("within", part, chance.choice((0, 7, 10, 999)), chance.randrange(1000))
+    return ("less", part, chance.randrange(1000))
+
+
+def plain_workings(words, most):
+    """All plain workings of at most so many steps, made from their words on: a list for each text that they make."""
+    levels = [[], [(word, ("word", word)) for word in words]]
+    for number in range(2, most + 1):
+        level = [(text[::-1], ("back", part)) for text, part in levels[number - 1]]
+        if number == 2:
+            for word in words:
+                level.extend(steps_of_a_word(word))
+        for share in range(1, number - 1):
+            for (text, part), (other, behind) in itertools.product(levels[share], levels[number - 1 - share]):
+                level.append((text + other, ("join", part, behind)))
+        levels.append(level)
+    told = {}
+    for level in levels[:most + 1]:
+        for text, working in level:
+            told.setdefault(text, []).append(working)
+    return told
+
+
+def steps_of_a_word(word):
+    """Each mix, within and less of a word, with what it makes."""
+    part = ("word", word)
+    length = len(word)
+    mixes = {"".join(letters) for letters in itertools.permutations(word)} - {word}
+    cuts = [(start, end) for start, end in itertools.combinations(range(length + 1), 2) if end - start < length]
+    told = [(text, ("mix", part, text)) for text in sorted(mixes)]
+    told += [(word[start:end], ("within", part, start, end)) for start, end in cuts]
+    return told + [(word[:at] + word[at + 1:], ("less", part, at)) for at in range(length)]

@@ -12,6 +12,7 @@ from crosswright.rows import need_floor
 from crosswright.sheets import agrees
 from reckoning import (
     FLOORS, all_fillings, book_of, filled_at_random, is_told, rows_in, told_bounded, told_closed, words_at_random,
+    worth_in,
 )
 
 EMPTY = ("..", "..")
@@ -24,10 +25,6 @@ SORTS = (
     (0,), (1,), (GREATEST,), (0, 1), (0, 1, 2, 3), tuple(range(50)), (0, 0, 0, 10 ** 59), (GREATEST, GREATEST - 1),
     (1, 10, 100, 1000, 10000),
 )
-
-
-def worth_in(worths, filling):
-    return sum(worths[word] for word in rows_in(filling))
 
 
 class Best(unittest.TestCase):
@@ -74,7 +71,9 @@ class Ordinary(Best):
         self.assertEqual(self.hold(worths, ("a..", "..."))[:2], (("abc", "def"), 5))
 
     def test_letters_that_are_given(self):
-        for sheet, want in (((".b", ".."), SQUARE), (("..", "b."), OTHER), (("ab", ".."), SQUARE), (("a.", "c."), SQUARE)):
+        for sheet, want in (
+            ((".b", ".."), SQUARE), (("..", "b."), OTHER), (("ab", ".."), SQUARE), (("a.", "c."), SQUARE),
+        ):
             self.assertEqual(self.hold(WORTHS, sheet, {want})[:2], (want, 15))
 
     def test_letters_that_no_filling_has(self):
@@ -197,8 +196,8 @@ class Great(Best):
     def test_five_lines_and_more(self):
         chance = random.Random(35)
         for floor in (
-            ("." * 5,) * 5, ("...##", ".....", ".....", ".....", "##..."), ("..#..", ".....", ".....", ".....", "..#.."),
-            ("." * 6,) * 6, ("." * 6,) * 5,
+            ("." * 5,) * 5, ("." * 6,) * 6, ("." * 6,) * 5, ("...##", ".....", ".....", ".....", "##..."),
+            ("..#..", ".....", ".....", ".....", "..#.."),
         ):
             lengths = [len(run) for run in rows_in(floor)]
             grid = filled_at_random(chance, floor, self.LETTERS)

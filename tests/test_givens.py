@@ -91,7 +91,9 @@ class Ordinary(Givens):
         self.assertEqual(len(seconds), 2)
 
     def test_many_words_fit_everywhere(self):
-        for letters, filling in (("abc", ("aab", "bcc", "cab")), ("abcd", ("abcd", "bdac")), ("ab", ("ab", "aa", "ba"))):
+        for letters, filling in (
+            ("abc", ("aab", "bcc", "cab")), ("abcd", ("abcd", "bdac")), ("ab", ("ab", "aa", "ba")),
+        ):
             lengths = {len(run) for run in rows_in(filling)}
             words = ["".join(signs) for length in lengths for signs in itertools.product(letters, repeat=length)]
             self.assertGreater(len(self.hold(words, filling)[1]), 2)
